@@ -1,0 +1,1 @@
+"""Onename: one name only across parted houses."""
