@@ -2,6 +2,9 @@
 
 LETTERS = "abcdefghijklmnopqrstuvwxyz"
 LONGEST_NAME = 8
+MOST_HOUSES = 7
+LEAST_TERM = 2
+MOST_TERM = 9
 
 # What stands behind each deed's first word; is_part says what the kinds mean.
 DEED_PARTS = {
@@ -35,6 +38,16 @@ def reach_of(numbers, many):
 def is_whole(thing):
     """Whether it is a whole number: truths are ints to Python, but none here."""
     return isinstance(thing, int) and not isinstance(thing, bool)
+
+
+def is_many(thing):
+    """Whether there may be so many houses."""
+    return is_whole(thing) and 1 <= thing <= MOST_HOUSES
+
+
+def is_term(thing):
+    """Whether words may be given for so many rounds."""
+    return is_whole(thing) and LEAST_TERM <= thing <= MOST_TERM
 
 
 def is_house(many, thing):

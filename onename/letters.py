@@ -22,6 +22,16 @@ def reach_of_words(words, many):
     return reach_of([until for house, until in words], many)
 
 
+def news_of(many, log, entries, notice):
+    """The told letters and the notice, where the needed words reach farther by these entries, and above now."""
+    name, house, number, person, now = notice
+    ahead = reach_of_words(words_for(log, name, number), many)
+    reach = reach_of_words(words_for(log + entries, name, number), many)
+    if reach <= ahead or reach <= now:
+        return ((), None)
+    return (told_letters(many, notice), notice)
+
+
 def take_ask(house, log, letter, now):
     """Give the word, say it once more, or say no."""
     kind, sender, to, name, number, person, until = letter
@@ -47,12 +57,9 @@ def take_word(many, house, log, letter, now):
         return ((), (("back", house, sender, name, number),), None)
     if any([giver == sender and given >= until for giver, given in claim[3]]):
         return NOTHING
-    entry = ("got", name, number, sender, until)
-    reach = reach_of_words(words_for(log + (entry,), name, number), many)
-    if reach <= now or reach <= reach_of_words(claim[3], many):
-        return ((entry,), (), None)
-    notice = (name, house, number, claim[1], now)
-    return ((entry,), told_letters(many, notice), notice)
+    entries = (("got", name, number, sender, until),)
+    letters, notice = news_of(many, log, entries, (name, house, number, claim[1], now))
+    return (entries, letters, notice)
 
 
 def take_no(log, letter):
