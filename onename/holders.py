@@ -10,11 +10,16 @@ PAPER_PARTS = ("name", "house", "number", "name")
 WORD_PARTS = ("house", "number")
 
 
+def has_its_name(world, claim):
+    """Whether a house's claim, which may be None, has its name."""
+    return claim is not None and reach_of_words(claim[3], many_of(world)) > world[NOW]
+
+
 def claim_with_name(world, name):
     """The house and the claim that has a name: (house, claim), or None."""
     for house, log in enumerate(world[LOGS]):
         claim = claim_in(log, name)
-        if claim is not None and reach_of_words(claim[3], many_of(world)) > world[NOW]:
+        if has_its_name(world, claim):
             return (house, claim)
     return None
 
@@ -26,6 +31,25 @@ def holder_of(world, name):
         return None
     house, claim = found
     return (house, claim[0], claim[1])
+
+
+def logs_by_names(log):
+    """For each name in a log its entries alone, so that a log of many names is gone through once for all of them."""
+    logs = {}
+    for entry in log:
+        logs.setdefault(entry[1], []).append(entry)
+    return logs
+
+
+def holders_in(world):
+    """All claims that have their names: (name, house, number, person) of each, by names."""
+    holders = []
+    for house, log in enumerate(world[LOGS]):
+        for name, entries in logs_by_names(log).items():
+            claim = claim_in(entries, name)
+            if has_its_name(world, claim):
+                holders.append((name, house, claim[0], claim[1]))
+    return sorted(holders)
 
 
 def paper_for(world, name):

@@ -17,6 +17,9 @@ BARRED_WORDS = set("""type typing typing_extensions enum Enum IntEnum StrEnum Fl
 BARRED_NAMES = set("""register mro elements open input version_info with_traceback add_note attrgetter breakpoint
     builtins compile copyright credits delattr dir eval exec exit gc getattr globals hasattr help id importlib license
     locals methodcaller os quit setattr type vars""".split())
+METHODS = set("""append clear copy count endswith extend find get index insert isalnum isalpha isdigit islower isspace
+    isupper items join keys ljust lower lstrip partition pop remove replace reverse rfind rjust rpartition rsplit rstrip
+    setdefault split splitlines startswith strip update upper values zfill bit_length""".split())
 BARRED_NODES = (ast.Global, ast.AsyncFunctionDef, ast.AsyncFor, ast.AsyncWith, ast.Await, ast.Import, ast.Div)
 
 
@@ -92,6 +95,23 @@ class LanguageTest(unittest.TestCase):
             self.assertFalse(name in BARRED_NAMES or name in dir(builtins), (path, name))
             if not (name.startswith("__") and name.endswith("__")):
                 self.assertRegex(name, r"\A[A-Za-z][A-Za-z0-9_]*\Z", path)
+
+    def test_no_local_name_hides_an_import_or_a_class(self):
+        for path, text in sources():
+            tree = ast.parse(text)
+            taken = {alias.name for node in ast.walk(tree) if isinstance(node, ast.ImportFrom) for alias in node.names}
+            taken |= {node.name for node in ast.walk(tree) if isinstance(node, ast.ClassDef)}
+            for node in ast.walk(tree):
+                if isinstance(node, ast.arg):
+                    self.assertNotIn(node.arg, taken, path)
+                elif isinstance(node, ast.Name) and isinstance(node.ctx, ast.Store):
+                    self.assertNotIn(node.id, taken, path)
+
+    def test_methods_of_builtin_values(self):
+        own = {node.name for path, node in nodes_of(ast.FunctionDef)}
+        for path, node in nodes_of(ast.Call):
+            if isinstance(node.func, ast.Attribute):
+                self.assertIn(node.func.attr, METHODS | own, path)
 
     def test_builtins(self):
         for path, node in nodes_of(ast.Name):

@@ -2,7 +2,7 @@
 
 import unittest
 
-from drawing import Drawing
+from drawing import Drawing, any_deed
 from model import Model, Refused
 
 from onename.errors import HouseError
@@ -13,7 +13,6 @@ from onename.quiet import barred_for, claimed_surely, quiet_round, quiet_rounds
 from onename.worlds import done, world_of
 
 NAMES = ("ab", "cd")
-PERSONS = ("joe", "ann", "sue")
 GREAT = 10 ** 29
 
 
@@ -109,28 +108,7 @@ class Drawn(Watched):
 
     def deed(self, names):
         """Any deed; claims and renewals of these names only."""
-        draw = self.drawing
-        many, yard = len(self.world[2]), self.world[6]
-        # Houses with lesser numbers are drawn oftener: where all claim alike, hardly one gets the needed words.
-        house, name = draw.below(draw.below(many) + 1), draw.one_of(NAMES)
-        kinds = ("carry",) * 16 + ("claim",) * 3 + ("renew", "renew", "copy", "copy", "lose", "back", "fall", "rise",
-                                                    "rise", "part", "heal", "heal", "round")
-        kind = draw.one_of(kinds)
-        if kind in ("claim", "renew"):
-            if name not in names:
-                return ("heal",)
-            return (kind, house, name) + ((draw.one_of(PERSONS),) if kind == "claim" else ())
-        if kind == "back":
-            return (kind, house, name)
-        if kind in ("fall", "rise"):
-            return (kind, draw.one_of(self.world[4] + (house,)) if kind == "rise" else house)
-        if kind == "part" and many > 1:
-            side = draw.some_of(range(many))
-            return (kind, tuple(side) if 0 < len(side) < many else (house,))
-        if kind in ("carry", "copy", "lose"):
-            # One farther than the yard goes, so that a letter that is none is asked for, too.
-            return (kind, draw.below(len(yard) + 1))
-        return ("heal",) if kind in ("part", "heal") else ("round",)
+        return any_deed(self.drawing, self.world, NAMES, names)
 
     def go(self, steps, names):
         for step in range(steps):

@@ -8,6 +8,8 @@ from worlds_by_hand import behind
 from onename.holders import holder_of, paper_for, paper_shows
 from onename.looks import ages_of, look_up
 from onename.quiet import barred_for, claimed_surely, quiet_round, quiet_rounds
+from onename.stories import first_wrong, spells_of, story_of
+from onename.texts import read_log, show_log
 from onename.worlds import done, world_of
 
 # Far more than is needed: it is to catch work that grows out of bounds, not a slow machine.
@@ -64,6 +66,22 @@ class SizeTest(unittest.TestCase):
         self.assertEqual(len(after[6]), 994)
         self.assertEqual(after[0], 20)
         self.assertEqual(claimed_surely(after, 6, "ab", "sue")[1], 1)
+
+    def test_stories_of_four_hundred_deeds_of_many_names(self):
+        names = [first + second for first in "abcdefghijklmnopqrstuvwxyz" for second in "abcdefg"]
+        deeds = [("claim", at % 3, names[at], "joe") for at in range(100)] + [("carry", 0)] * 300
+        story = story_of(3, 9, deeds)
+        self.assertEqual(len(story[-1][1]), 50)
+        self.assertIsNone(first_wrong(3, 9, story))
+        self.assertEqual(first_wrong(3, 9, story[:-1] + [(("carry", 0), story[-1][1][:-1])]), 399)
+        self.assertEqual(len(spells_of(3, 9, deeds)), 50)
+        alone = [("claim", 0, name, "joe") for name in names] + [("back", 0, name) for name in names]
+        self.assertEqual(spells_of(1, 9, alone), [(name, 0, at + 1, "joe", at + 1, at + 183)
+                                                  for at, name in enumerate(names)])
+
+    def test_long_logs_as_texts(self):
+        for log in self.long_logs()[2]:
+            self.assertEqual(read_log(7, show_log(log)), log)
 
 
 if __name__ == "__main__":
